@@ -3,6 +3,7 @@ package graph
 import (
 	"gusset/api"
 	"gusset/fault"
+	"gusset/own"
 )
 
 // run does the operations, one behind the other, until one is refused. It answers what they read, or who was refused.
@@ -76,9 +77,9 @@ func (g *Graph) isFull(v uint32) bool {
 func (g *Graph) read(op api.Op) (api.Value, bool) {
 	switch op.Kind {
 	case api.OpGet:
-		return own(g.props[op.A][op.Key]), true
+		return own.Value(g.props[op.A][op.Key]), true
 	case api.OpEdge:
-		return own(g.edges[op.A][op.B]), true
+		return own.Value(g.edges[op.A][op.B]), true
 	case api.OpDegree:
 		return api.Value{Kind: api.Int, N: int64(len(g.edges[op.A]))}, true
 	}
@@ -95,8 +96,8 @@ func (g *Graph) change(op api.Op) {
 	case api.OpSet:
 		g.set(op.A, op.Key, op.Val)
 	case api.OpJoin:
-		g.edges[op.A][op.B] = own(op.Val)
-		g.edges[op.B][op.A] = own(op.Val)
+		g.edges[op.A][op.B] = own.Value(op.Val)
+		g.edges[op.B][op.A] = own.Value(op.Val)
 	case api.OpCut:
 		delete(g.edges[op.A], op.B)
 		delete(g.edges[op.B], op.A)
@@ -109,5 +110,5 @@ func (g *Graph) set(v uint32, key byte, val api.Value) {
 		delete(g.props[v], key)
 		return
 	}
-	g.props[v][key] = own(val)
+	g.props[v][key] = own.Value(val)
 }

@@ -7,6 +7,7 @@ import (
 	"gusset/commit"
 	"gusset/credit"
 	"gusset/graph"
+	"gusset/own"
 	"gusset/plan"
 	"gusset/session"
 	"gusset/span"
@@ -381,7 +382,7 @@ func (n *Node) decide(r *run) {
 
 // decision is r as it is told.
 func (r *run) decision() Decision {
-	return Decision{r.tx, r.client, r.seq, ownRequest(r.req), ownAnswer(r.ans)}
+	return Decision{r.tx, r.client, r.seq, own.Request(r.req), own.Answer(r.ans)}
 }
 
 // end ends r, which all have applied. Not ahead of that it is answered: so a client that has its answer needs never ask
